@@ -1,0 +1,1 @@
+"""Farjump: parts of code put together and laid down."""
