@@ -36,6 +36,9 @@ class Row:
     def words(self):
         return tuple([list(one) if isinstance(one, tuple) else one for one in self.told])
 
+    def by_places(self, places):
+        return self.words()
+
     def asked(self):
         return []
 
@@ -78,6 +81,10 @@ class SetRow(CodeRow):
 
 
 class AlikeRow(CodeRow):
+    def by_places(self, places):
+        kind, box, one, other = self.told
+        return (kind, box, places[one], places[other])
+
     def asked(self):
         return list(self.told[2:])
 
@@ -87,6 +94,9 @@ class AlikeRow(CodeRow):
 
 # jumpif, call, load
 class AimRow(CodeRow):
+    def by_places(self, places):
+        return self.told[:-1] + (places[self.told[-1]],)
+
     def asked(self):
         return [self.told[-1]]
 
@@ -106,6 +116,9 @@ class NumbersRow(DataRow):
 
 
 class TableRow(DataRow):
+    def by_places(self, places):
+        return (self.told[0], [places[name] for name in self.told[1]])
+
     def asked(self):
         return list(self.told[1])
 

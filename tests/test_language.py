@@ -24,6 +24,12 @@ NO_WORDS = set("""type typing typing_extensions enum Enum IntEnum StrEnum Flag I
 namedtuple NamedTuple TypedDict TYPE_CHECKING abstractmethod register mro elements open input version_info with_traceback
 add_note""".split())
 NO_WORDS_WITHIN = ("dataclass", "overload", "contextmanager")
+WALKED = ("zip", "enumerate", "reversed", "range")
+WALKED_METHODS = ("items", "keys", "values")
+WALKERS = ("list", "tuple", "dict", "sorted", "sum", "any", "all", "enumerate", "zip")
+TABLE_READERS = WALKERS + ("len", "min", "max", "reversed")
+KEYWORDS = {"sorted": ("key", "reverse"), "min": ("key", "default"), "max": ("key", "default"), "sum": ("start",),
+            "enumerate": ("start",), "zip": ("strict",)}
 NO_VALUES = set("""items keys values pop update append clear extend insert remove reverse setdefault sort args encode
 format""".split())
 
@@ -61,6 +67,38 @@ def own_methods():
 
 def own_values():
     return {node.attr for file, node in nodes(ast.Attribute) if isinstance(node.ctx, ast.Store)}
+
+
+def name_of_call(node):
+    return node.func.id if isinstance(node, ast.Call) and isinstance(node.func, ast.Name) else None
+
+
+def with_parents():
+    """Each node with the one it stands in."""
+    return [(name, node, above) for name, tree in trees() for above in ast.walk(tree) for node in ast.iter_child_nodes(above)]
+
+
+def is_walked_by(node, above):
+    if isinstance(above, (ast.For, ast.comprehension)):
+        return above.iter is node
+    if name_of_call(above) in WALKERS:
+        return above.args[0] is node or name_of_call(above) in ("enumerate", "zip")
+    if name_of_call(above) in ("min", "max"):
+        return above.args == [node]
+    return isinstance(above, ast.Call) and isinstance(above.func, ast.Attribute) and above.func.attr == "join"
+
+
+def top_tables(tree):
+    return {node.targets[0].id: node.value for node in tree.body
+            if isinstance(node, ast.Assign) and isinstance(node.value, (ast.List, ast.Dict))}
+
+
+def only_reads(node, above):
+    if isinstance(above, ast.Subscript):
+        return above.value is node and isinstance(above.ctx, ast.Load)
+    if isinstance(above, ast.Attribute):
+        return above.attr in ("get", "count", "index") + WALKED_METHODS
+    return isinstance(above, ast.Compare) or is_walked_by(node, above) or name_of_call(above) in TABLE_READERS
 
 
 class Language(unittest.TestCase):
@@ -175,6 +213,41 @@ class Language(unittest.TestCase):
                 if isinstance(sign, (ast.Is, ast.IsNot)):
                     self.assertIsInstance(right, ast.Constant, (name, node.lineno))
                     self.assertIn(right.value, (None, True, False), (name, node.lineno))
+
+    def test_walked_at_once(self):
+        for name, node, above in with_parents():
+            method = node.func.attr if isinstance(node, ast.Call) and isinstance(node.func, ast.Attribute) else None
+            if name_of_call(node) in WALKED or method in WALKED_METHODS:
+                self.assertTrue(is_walked_by(node, above), (name, node.lineno))
+
+    def test_sets_are_not_kept(self):
+        for name, node, above in with_parents():
+            if name_of_call(node) in ("set", "frozenset") or isinstance(node, ast.Set):
+                right = isinstance(above, (ast.Compare, ast.BinOp)) or name_of_call(above) in ("sorted", "len")
+                self.assertTrue(right, (name, node.lineno))
+
+    def test_powers_have_a_written_exponent(self):
+        for name, node in nodes(ast.BinOp):
+            if isinstance(node.op, ast.Pow):
+                self.assertIsInstance(node.right, ast.Constant, (name, node.lineno))
+                self.assertIn(node.right.value, range(65), (name, node.lineno))
+
+    def test_keywords_of_pythons_own(self):
+        for name, node in nodes(ast.Call):
+            called = name_of_call(node) or node.func.attr
+            if called in OWN_NAMES or called in OWN_METHODS:
+                for one in node.keywords:
+                    self.assertIn(one.arg, KEYWORDS.get(called, ()), (name, node.lineno))
+
+    def test_what_stands_at_the_top_is_only_read(self):
+        for name, tree in trees():
+            tables = top_tables(tree)
+            for table in tables.values():
+                inner = [node for node in ast.walk(table) if node is not table]
+                self.assertFalse([node for node in inner if isinstance(node, (ast.List, ast.Dict))], name)
+            for file, node, above in with_parents():
+                if file == name and isinstance(node, ast.Name) and isinstance(node.ctx, ast.Load) and node.id in tables:
+                    self.assertTrue(only_reads(node, above), (name, node.lineno))
 
 
 if __name__ == "__main__":

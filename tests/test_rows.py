@@ -220,6 +220,19 @@ class WhatARowTells(unittest.TestCase):
                 self.assertEqual(lengths(("numbers", [0] * count)), (2 + 4 * count,))
                 self.assertEqual(lengths(("table", ["a"] * count)), (2 + 2 * count,))
 
+    def test_rows_by_places_have_places_where_they_had_names(self):
+        places = {"aim": 25, "one": 7, "other": 9, "two": ("part", 3)}
+        for told, right in [
+                (("jump", "aim"), ("jump", 25)), (("jumpif", 2, "aim"), ("jumpif", 2, 25)), (("call", "aim"), ("call", 25)),
+                (("load", 0, 1, "aim"), ("load", 0, 1, 25)), (("jumpby", 3, "aim"), ("jumpby", 3, 25)),
+                (("alike", 2, "one", "other"), ("alike", 2, 7, 9)), (("alike", 2, "two", "one"), ("alike", 2, ("part", 3), 7)),
+                (("table", ["two", "aim", "two"]), ("table", [("part", 3), 25, ("part", 3)]))]:
+            with self.subTest(told):
+                self.assertEqual(row_of(told).by_places(places), right)
+        for told, names, *more in ROWS:
+            if names == []:
+                self.assertEqual(row_of(told).by_places({}), told)
+
     def test_names_do_not_hang_on_boxes(self):
         for box in range(4):
             with self.subTest(box):
