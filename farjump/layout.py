@@ -60,9 +60,7 @@ def far_rows(bare, places, layout, border):
     return far
 
 
-def least_layout(parts, border):
-    bare, places = let_by(parts)
-    look_at_border(border)
+def least_right(bare, places, border):
     layout = shortest(bare)
     far = far_rows(bare, places, layout, border)
     while len(far) > 0:
@@ -72,9 +70,13 @@ def least_layout(parts, border):
     return layout
 
 
-def starts(parts, border, base, layout):
+def least_layout(parts, border):
     bare, places = let_by(parts)
-    look_at_base(border, base)
+    look_at_border(border)
+    return least_right(bare, places, border)
+
+
+def starts_of(bare, border, base, layout):
     told = {}
     end = base
     for part in bare:
@@ -82,3 +84,9 @@ def starts(parts, border, base, layout):
         told[part] = (end + border - 1) // border * border
         end = told[part] + sum(layout[part])
     return told
+
+
+def starts(parts, border, base, layout):
+    bare, places = let_by(parts)
+    look_at_base(border, base)
+    return starts_of(bare, border, base, layout)

@@ -77,3 +77,12 @@ def looked_at(parts):
     for name, rows in told:
         look_behind_rows(name, rows)
     return told
+
+
+def own_copy(thing):
+    # Of anything, also of what is no part: who hands on what nobody has looked at yet asks for it, too.
+    if isinstance(thing, list):
+        return [own_copy(one) for one in thing]
+    if isinstance(thing, tuple):
+        return tuple([own_copy(one) for one in thing])
+    return thing

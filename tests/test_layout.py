@@ -5,43 +5,14 @@ import itertools
 import random
 import unittest
 
-from farjump.errors import BadBase, BadParts, BadRow, Lacking, NoEnd, Twice, WrongAim
+from farjump.errors import BadBase
 from farjump.layout import least_layout, starts
+from tests.helper import AIMING, NO_BORDERS, STOP, WRONG_PARTS, Refusals, filled, in_each_order, mark
 
-STOP = ("stop",)
 SHORT, LONG = 2, 3
 
-# Rows that may be short or long, each with the row at which it may aim and that one's length.
-AIMING = [
-    (("jump", "aim"), STOP, 1),
-    (("jumpif", 1, "aim"), STOP, 1),
-    (("call", "aim"), STOP, 1),
-    (("load", 1, 2, "aim"), ("numbers", [7]), 6),
-    (("jumpby", 1, "aim"), ("table", ["m"]), 4),
-]
-NO_BORDERS = [0, -1, -64, 65, 66, 100, 10 ** 59, -(10 ** 59), True, False, None, "1", "", [1], (1,), {}]
 
-
-def mark(name):
-    return ("mark", name, True)
-
-
-def filled(cells):
-    """Rows of just so many cells in all, few of them; where there are any, a code row comes first."""
-    rows = [STOP] * min(cells, 1)
-    left = cells - len(rows)
-    while left >= 6:
-        count = min(60, (left - 2) // 4)
-        rows.append(("numbers", [0] * count))
-        left -= 2 + 4 * count
-    return rows + [STOP] * left
-
-
-def in_each_order(parts):
-    return [list(some) for some in itertools.permutations(parts)]
-
-
-class Layouts(unittest.TestCase):
+class Layouts(Refusals):
     def told(self, parts, border, right):
         before = copy.deepcopy(parts)
         layout = least_layout(parts, border)
@@ -351,14 +322,6 @@ class Starts(Layouts):
 
 
 class Refused(Layouts):
-    def refused(self, error, asked, given):
-        before = copy.deepcopy(given)
-        with self.assertRaises(error) as caught:
-            asked(*given)
-        self.assertIs(type(caught.exception), error)
-        self.assertEqual(given, before)
-        return caught.exception
-
     def test_borders_that_are_none(self):
         parts = [("a", [STOP])]
         for border in NO_BORDERS:
@@ -384,19 +347,11 @@ class Refused(Layouts):
                     self.refused(BadBase, starts, (parts, border, base - 3 * border, {"a": [1]}))
 
     def test_what_is_wrong_with_the_parts_goes_ahead(self):
-        twice = [("a", [mark("x"), mark("x"), STOP])]
-        lacking = [("a", [STOP, ("jump", "gone")])]
-        wrong = [("a", [mark("x"), ("numbers", [1]), ("jump", "x")])]
-        for border, base in ((1, 0), (0, 0), (65, 0), (None, None), (2, 1), (4, -4)):
-            for error, parts, fields in [
-                    (BadParts, [], {}), (BadParts, None, {}), (BadParts, [("a", [])], {}),
-                    (BadRow, [("a", [("say", 4), STOP])], {"part": "a", "row": 0}),
-                    (NoEnd, [("a", [("say", 3)])], {"part": "a", "row": 0}), (Twice, twice, {"name": "x", "parts": ["a"]}),
-                    (Lacking, lacking, {"name": "gone", "part": "a", "row": 1}),
-                    (WrongAim, wrong, {"name": "x", "part": "a", "row": 1})]:
+        for error, parts, fields in WRONG_PARTS:
+            for border, base in ((1, 0), (0, 0), (65, 0), (None, None), (2, 1), (4, -4)):
                 with self.subTest((error, border, base)):
-                    self.assertEqual(vars(self.refused(error, least_layout, (parts, border))), fields)
-                    self.assertEqual(vars(self.refused(error, starts, (parts, border, base, {"a": [1]}))), fields)
+                    self.assertEqual(self.refused(error, least_layout, (parts, border)), fields)
+                    self.assertEqual(self.refused(error, starts, (parts, border, base, {"a": [1]})), fields)
 
 
 class TheAskersOwn(Layouts):

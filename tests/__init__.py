@@ -1,0 +1,1 @@
+"""The tests of farjump; helper.py holds what several of them share."""
