@@ -9,12 +9,13 @@ from farjump.words import is_whole, is_word
 
 
 class Image:
-    def __init__(self, own_base, own_border, own_cells, names, begins, aims):
+    def __init__(self, own_base, own_border, own_cells, names, begins, sizes, aims):
         self.own_base = own_base
         self.own_border = own_border
         self.own_cells = own_cells
         self.names = names
         self.begins = begins
+        self.sizes = sizes
         self.aims = aims
 
     def cells(self):
@@ -35,6 +36,14 @@ class Image:
     def part_places(self):
         return dict(self.begins)
 
+    # Of each part its place and its cells, without the cells that fill up to the next border.
+    def places_and_cells(self):
+        told = {}
+        for part, place in self.begins.items():
+            first = place - self.own_base
+            told[part] = (place, self.own_cells[first:first + self.sizes[part]])
+        return told
+
     def moves(self):
         return list(self.aims)
 
@@ -50,7 +59,8 @@ class Image:
             cells[aim - self.own_base] = above
             cells[aim - self.own_base + 1] = below
         aims = [aim + by for aim in self.aims]
-        return Image(base, self.own_border, cells, all_moved(self.names, by), all_moved(self.begins, by), aims)
+        names = all_moved(self.names, by)
+        return Image(base, self.own_border, cells, names, all_moved(self.begins, by), self.sizes, aims)
 
 
 def all_moved(places, by):
@@ -90,7 +100,8 @@ def laid(parts, base=0, border=1):
     look_at_base(border, base)
     layout = least_right(bare, places, border)
     begins = starts_of(bare, border, base, layout)
-    look_at_end(max([begins[part] + sum(layout[part]) for part in bare]))
+    sizes = dict([(part, sum(lengths)) for part, lengths in layout.items()])
+    look_at_end(max([begins[part] + sizes[part] for part in bare]))
     own = row_places(layout, begins)
     names = dict([(name, at_place(own, place)) for name, place in places.items()])
     cells = []
@@ -101,4 +112,4 @@ def laid(parts, base=0, border=1):
             near = nearness(row, length)
             cells.extend(cells_of(row.by_places(names), place, near))
             aims.extend(aims_told(row, place, near))
-    return Image(base, border, cells, names, begins, aims)
+    return Image(base, border, cells, names, begins, sizes, aims)

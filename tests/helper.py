@@ -1,10 +1,12 @@
-"""What several tests share: rows that fill in, wrong parts, and a look at refusals."""
+"""What several tests share: rows that fill in, parts by chance, wrong parts, and a look at refusals."""
 
 import copy
 import itertools
+import random
 import unittest
 
 from farjump.errors import BadParts, BadRow, Lacking, NoEnd, Twice, WrongAim
+from farjump.names import bound, stands
 
 STOP = ("stop",)
 BACK = ("back",)
@@ -38,6 +40,48 @@ def filled(cells):
 
 def in_each_order(parts):
     return [list(some) for some in itertools.permutations(parts)]
+
+
+def lively_row(form, code, numbers):
+    box, other = form.randrange(4), form.randrange(4)
+    return form.choice([
+        ("set", box, form.choice([0, 1, 2, -1, 3, 2 ** 31 - 1, -2 ** 31])), ("add", box, other), ("take", box, other),
+        ("say", box), ("say", box), ("say", box), ("ask", box), ("ask", box), ("jumpif", box, code()), ("jumpif", box, code()),
+        ("call", code()), ("call", code()), ("call", code()), ("load", box, other, numbers()), ("load", box, other, numbers())])
+
+
+def lively_part(form, part, chosen, asks_alike):
+    """Each aim is drawn by the form, as one of the part's own names or a name of one that the form tells."""
+    def aim(letters):
+        return form.choice(letters) + (part if form.random() < 0.6 else form.choice(chosen))
+
+    rows = []
+    for letter in "xyz":
+        rows += [mark(letter + part)] + [mark("w", False)] * (letter == "y")
+        for turn in range(form.randint(0, 4)):
+            rows.append(lively_row(form, lambda: aim("xyz"), lambda: aim("n")))
+        if asks_alike and form.random() < 0.3:
+            rows.append(("alike", form.randrange(4), aim("xyzn"), form.choice([aim("xyz"), "w"])))
+        box = form.randrange(4)
+        rows.append(form.choice([("jump", aim("xyz")), ("jump", "w"), ("jumpby", box, aim("t")), ("jumpby", box, aim("t")), BACK, BACK, STOP]))
+        rows += filled(form.choice([0, 0, 1, 7, 60, 110]))
+    rows += [mark("n" + part), ("numbers", [form.randint(-2, 4) for turn in range(form.randint(1, 5))])]
+    rows += [mark("t" + part), ("table", [aim("xyz") for turn in range(form.randint(1, 4))])]
+    return (part, rows)
+
+
+def lively_parts(chance, most=5):
+    """Parts of each kind of row, near and far from one another; those of one form may be alike."""
+    chosen = chance.sample(["a", "b", "c", "ab", "zz", "m"], chance.randint(1, most))
+    forms = [chance.random() for turn in range(chance.randint(1, 3))]
+    asks_alike = chance.random() < 0.3
+    return [lively_part(random.Random(chance.choice(forms)), part, chosen, asks_alike) for part in chosen]
+
+
+def code_names(parts):
+    """The names that stand at code rows."""
+    rows_of = dict(bound(parts))
+    return sorted(name for name, place in stands(parts).items() if rows_of[place[0]][place[1]][0] not in ("numbers", "table"))
 
 
 # Parts that are not let by, each with its refusal and the refusal's fields.

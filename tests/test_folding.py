@@ -9,7 +9,7 @@ from farjump.errors import NoClasses
 from farjump.folding import classes, folded, parts_two
 from farjump.names import bound, stands
 from farjump.runner import run_names
-from tests.helper import BACK, STOP, WRONG_PARTS, Refusals, in_each_order, mark
+from tests.helper import BACK, STOP, WRONG_PARTS, Refusals, code_names, in_each_order, mark
 
 
 class Folds(Refusals):
@@ -432,11 +432,6 @@ def any_parts(chance, most=5):
             rows += [mark("z" + part), ("alike", 1, aim("xyn"), aim("xyn")), ("jump", aim("y"))]
         parts.append((part, rows))
     return parts
-
-
-def code_names(parts):
-    rows_of = dict(bound(parts))
-    return [name for name, place in stands(parts).items() if rows_of[place[0]][place[1]][0] not in ("numbers", "table")]
 
 
 class AgainstAllClasses(Folds):

@@ -1,4 +1,4 @@
-"""Promises 26, 28, 33, 38 and 39: what bound refuses, all others refuse alike, whatever else is handed in beside."""
+"""Promises 26, 28, 33, 38, 39 and 44: what bound refuses, all others refuse alike, whatever else is handed in beside."""
 
 import copy
 import random
@@ -8,6 +8,7 @@ from farjump.checking import wrong_in
 from farjump.closed import leads_out, needed
 from farjump.errors import PartError
 from farjump.folding import classes, folded, parts_two
+from farjump.keeper import Keeper
 from farjump.laid import laid
 from farjump.layout import least_layout, starts
 from farjump.names import bound
@@ -23,9 +24,25 @@ SOME = [[], ["a"], ["a", "b"], ["none"], None]
 CLASSES = [[], [["a"]], [["a", "b"]], [["a"], ["b"]], [["b"], ["a"]], [[]], None, "ab"]
 
 
+def built(parts):
+    keeper = Keeper(64, 64)
+    for part in parts:
+        keeper.put(part)
+    return keeper.build()
+
+
+def may_be_kept(parts):
+    """A keeper has no two parts of one name: of these it would keep the last one."""
+    if not isinstance(parts, list):
+        return False
+    names = [part[0] for part in parts if isinstance(part, (tuple, list)) and part]
+    return not [name for name in names if names.count(name) > 1]
+
+
 def all_asked(parts):
     """Each function that refuses as bound does, with what is handed in beside."""
     told = [(classes, (parts,)), (laid, (parts,))]
+    told += [(built, (parts,))] if may_be_kept(parts) else []
     told += [(least_layout, (parts, border)) for border in BORDERS]
     told += [(starts, (parts, border, base, layout)) for border in BORDERS for base, layout in zip(BASES, LAYOUTS * 2)]
     told += [(wrong_in, (parts, border, layout)) for border in BORDERS for layout in LAYOUTS]
